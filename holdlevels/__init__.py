@@ -1,0 +1,1 @@
+"""How far running tasks may hold off others, with every deadline met."""

@@ -1,0 +1,1 @@
+"""Plans, a machine that runs jobs, and runs."""

@@ -1,0 +1,1 @@
+"""A task, tasks, and their levels."""
