@@ -55,6 +55,9 @@ INTERFACE = {
                     "Machine.trial Machine.attempt Machine.twin Machine.__eq__ Machine.__str__",
     "runs.runs": "Run.__init__ Run.levels Run.plan Run.log Run.starts Run.ends Run.answers Run.late Run.peak Run.__getitem__ "
                  "Run.stack_at Run.started_at Run.interruptions Run.__len__ Run.__eq__ Run.__str__ Run.__iter__ is_log",
+    "runs.windows": "window delay_in visits inside_at",
+    "answers.rounds": "round_length start_time end_time answers_by",
+    "answers.worst": "delay delayers worst_answer worst_answers worst_job answer_table is_answer_table shown_by",
 }
 
 

@@ -1,6 +1,7 @@
 """Runs of plans under levels."""
 
 from holdlevels.checks import check_between
+from holdlevels.errors import InvalidOperation
 from holdlevels.runs.plans import check_plan
 from holdlevels.runs.ticks import begun, hold_table, run_on, with_waiting
 from holdlevels.tasks.levels import check_levels
@@ -129,6 +130,12 @@ class Run:
 
     def __str__(self):
         return f"run of {len(self._plan)} jobs, {len(self._log)} ticks, {len(self.late)} late"
+
+
+def check_run(run):
+    """Raise InvalidOperation if the value is not a Run."""
+    if not isinstance(run, Run):
+        raise InvalidOperation("this is not a Run")
 
 
 def is_log(levels, plan, value):

@@ -1,0 +1,1 @@
+"""Worst answers of tasks, and the runs that reach them."""

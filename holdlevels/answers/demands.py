@@ -1,0 +1,131 @@
+"""Rounds and tables of answers: the least ones, and those that somebody else made."""
+
+from holdlevels.checks import is_whole
+from holdlevels.tasks.tasks import GAP, LONGEST
+
+MAX_DELAY = 99
+
+
+class Demand:
+    """What comes ahead of the end of a job: a delay, its own task, and the more urgent ones.
+
+    The near tasks are those up to the level, which never interrupt the job; the far ones do.
+    """
+
+    def __init__(self, tasks, urgency, level, held):
+        works = [(task[GAP], task[LONGEST]) for task in tasks.tasks]
+        self.held = held
+        self.gap, self.longest = works[urgency]
+        self.near = works[urgency + 1:level + 1]
+        self.far = works[level + 1:]
+
+
+def work_before(works, tick):
+    """Return how long all runs that are released before a tick, from 0 on, as often as can be."""
+    return sum([-(-tick // gap) * longest for gap, longest in works])
+
+
+def work_until(works, tick):
+    """Return how long all runs that are released at a tick or before it, as often as can be."""
+    return sum([(tick // gap + 1) * longest for gap, longest in works])
+
+
+def least_round(demand):
+    """Return the least tick above 0 at which all is done that was released before."""
+    works = [(demand.gap, demand.longest), *demand.near, *demand.far]
+    length = 1
+    needed = demand.held + work_before(works, length)
+    while needed > length:
+        length = needed
+        needed = demand.held + work_before(works, length)
+    return length
+
+
+def _releases(works, end):
+    """Return the ascending pairs (tick, longest) of all that is released before the end."""
+    found = []
+    for gap, longest in works:
+        found.extend([(tick, longest) for tick in range(0, end, gap)])
+    return sorted(found)
+
+
+def _least_starts(demand, length):
+    """Return the least starts of all jobs of a round."""
+    coming = _releases(demand.near + demand.far, length)
+    place = 0
+    start = demand.held
+    starts = []
+    for _ in range(0, length, demand.gap):
+        while place < len(coming) and coming[place][0] <= start:
+            start += coming[place][1]
+            place += 1
+        starts.append(start)
+        start += demand.longest
+    return starts
+
+
+def _least_ends(demand, length, starts):
+    """Return the least ends of all jobs of a round for their least starts."""
+    coming = _releases(demand.far, length)
+    place = 0
+    ends = []
+    for start in starts:
+        while place < len(coming) and coming[place][0] <= start:
+            place += 1
+        # What comes while this job is started comes ahead of the next start, too.
+        end = start + demand.longest
+        later = place
+        while later < len(coming) and coming[later][0] < end:
+            end += coming[later][1]
+            later += 1
+        ends.append(end)
+    return ends
+
+
+def least_table(demand):
+    """Return the table of least numbers."""
+    length = least_round(demand)
+    starts = _least_starts(demand, length)
+    ends = _least_ends(demand, length, starts)
+    return length, tuple(zip(starts, ends))
+
+
+def shown_answers(demand, table):
+    """Return the answers of the jobs of a table."""
+    return [end - number * demand.gap for number, (_, end) in enumerate(table[1])]
+
+
+def greatest_answer(demand):
+    """Return the greatest answer that the table of least numbers shows."""
+    return max(shown_answers(demand, least_table(demand)))
+
+
+def _is_pair(value):
+    """Return whether the value is a pair of integers of at least 0."""
+    if not isinstance(value, tuple) or len(value) != 2:
+        return False
+    return all([is_whole(part) and part >= 0 for part in value])
+
+
+def _is_late_enough(demand, number, pair):
+    """Return whether a start and an end leave time for all that comes ahead of them."""
+    start, end = pair
+    ahead = demand.held + number * demand.longest + work_until(demand.near, start)
+    if start < ahead + work_until(demand.far, start):
+        return False
+    return end >= ahead + demand.longest + work_before(demand.far, end)
+
+
+def is_table(demand, value):
+    """Return whether the value is a table, of whatever numbers."""
+    if not isinstance(value, tuple) or len(value) != 2:
+        return False
+    length, pairs = value
+    if not is_whole(length) or length < 1 or not isinstance(pairs, tuple):
+        return False
+    works = [(demand.gap, demand.longest), *demand.near, *demand.far]
+    if length < demand.held + work_before(works, length) or len(pairs) != -(-length // demand.gap):
+        return False
+    if not all([_is_pair(pair) for pair in pairs]):
+        return False
+    return all([_is_late_enough(demand, number, pair) for number, pair in enumerate(pairs)])
