@@ -87,6 +87,19 @@ def busy_tasks(luck):
             return Tasks(*rows)
 
 
+def locked_tasks(luck):
+    """Return tasks with long sections and with deadlines that leave little time for delays."""
+    rows = []
+    work = 0
+    for name in ("d", "c", "b", "a")[:luck.randint(2, 4)]:
+        longest = luck.randint(4, 9)
+        work += longest
+        cuts = sorted(luck.sample(range(longest), 4))
+        sections = [(cuts[at], cuts[at + 1], luck.choice(["x", "y"])) for at in (0, 2)]
+        rows.insert(0, make_task(name, longest, 100, *sections, deadline=work + luck.choice([0, 1, 2, 3, 9])))
+    return Tasks(*rows)
+
+
 def full_plan(luck, tasks, end):
     """Return a plan in which the tasks release nearly as much as they can, most of it of longest runs."""
     jobs = []
@@ -129,7 +142,8 @@ def above(tasks, name):
 
 
 def released_before(works, tick):
-    return sum([len(range(0, tick, gap)) * longest for _, longest, gap in works])
+    """Return how long all runs that is released at 0, gap, 2 * gap and so on, before a tick."""
+    return sum([(tick + gap - 1) // gap * longest for _, longest, gap in works if tick > 0])
 
 
 def round_told(tasks, name, held):
@@ -181,7 +195,7 @@ def is_table_told(levels, name, value):
     length, pairs = value
     if length < 1 or length < held + released_before(works + [(0, longest, gap)], length):
         return False
-    if len(pairs) != len(range(0, length, gap)):
+    if len(pairs) != (length + gap - 1) // gap:
         return False
     for k, (start, end) in enumerate(pairs):
         if start < 0 or start < held + k * longest + released_before(works, start + 1):

@@ -57,6 +57,11 @@ INTERFACE = {
                  "Run.stack_at Run.started_at Run.interruptions Run.__len__ Run.__eq__ Run.__str__ Run.__iter__ is_log",
     "runs.windows": "window delay_in visits inside_at",
     "answers.rounds": "round_length start_time end_time answers_by",
+    "answers.reached": "worst_plan is_worst_plan reaching_plan late_plan",
+    "good.tolerances": "tolerance tolerances least_level",
+    "good.judged": "is_good faults state_paper is_state_paper",
+    "good.greatest": "lowerings raisings greatest_levels least_levels levels_paper is_levels_paper good_path must_interrupt "
+                     "can_interrupt",
     "answers.worst": "delay delayers worst_answer worst_answers worst_job answer_table is_answer_table shown_by",
 }
 

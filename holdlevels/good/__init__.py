@@ -1,0 +1,1 @@
+"""Which levels meet all deadlines in all runs."""

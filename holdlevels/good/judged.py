@@ -1,0 +1,53 @@
+"""Whether levels are good, and why not."""
+
+from holdlevels.answers.holdups import holdups
+from holdlevels.answers.reached import late_name, worst_plan
+from holdlevels.good.papers import are_good_tables, has_late_job, tables_of
+from holdlevels.good.tolerances import most_borne
+from holdlevels.runs.plans import is_plan
+from holdlevels.tasks.levels import check_levels
+
+
+def is_good(levels):
+    """Return whether no job is late in any run under the levels."""
+    check_levels(levels)
+    return late_name(levels) is None
+
+
+def faults(levels):
+    """Yield all faults of the levels, by the urgencies of both tasks, then by lock and ticks."""
+    check_levels(levels)
+    tasks = levels.tasks
+    for urgency, name in enumerate(tasks.names):
+        most = most_borne(tasks, urgency, levels.numbers[urgency], -1)
+        if most < 0:
+            yield (name, None, None, 0)
+        else:
+            for lower, lock, ticks, _ in holdups(levels, urgency):
+                if ticks > most:
+                    yield (name, lower, lock, ticks)
+
+
+def state_paper(levels):
+    """Return a paper that the levels are good, or that a job is late."""
+    check_levels(levels)
+    name = late_name(levels)
+    if name is None:
+        return "good", tables_of(levels)
+    return "late", name, worst_plan(levels, name)
+
+
+def _is_late_plan(levels, name, plan):
+    """Return whether the value is a plan in whose run a job of the task is late."""
+    tasks = levels.tasks
+    return name in tasks and is_plan(tasks, plan) and has_late_job(levels, name, plan)
+
+
+def is_state_paper(levels, value):
+    """Return whether the value is a paper that the levels are good, or that a job is late."""
+    check_levels(levels)
+    if not isinstance(value, tuple):
+        return False
+    if len(value) == 2:
+        return value[0] == "good" and are_good_tables(levels, value[1])
+    return len(value) == 3 and value[0] == "late" and _is_late_plan(levels, value[1], value[2])
