@@ -1,5 +1,7 @@
 """Values that the tests have in common."""
 
+import sys
+
 from holdlevels.runs.machine import Machine
 from holdlevels.runs.runs import Run
 from holdlevels.tasks.levels import Levels
@@ -39,6 +41,25 @@ NOT_PLANS = [value for value in PLAIN + OWN if value != ()] + [
     ((0, "brake", 2), (9, "brake", 2)), ((0, "brake", 1), (0, "brake", 2)), ((0, "log", 1), (0, "brake", 1)),
     ((0, "brake", 2), (5, "log", 6), (9, "brake", 2)),
 ]
+
+
+def calls_of(action):
+    """Return how many calls of functions of the program and the tests an action makes.
+
+    This tells how much slower Python code goes than the clock does, but is the same each time.
+    """
+    found = []
+
+    def note(frame, event, _):
+        if event == "call":
+            found.append(frame.f_code.co_name)
+
+    sys.setprofile(note)
+    try:
+        action()
+    finally:
+        sys.setprofile(None)
+    return len(found)
 
 
 def others(*kinds):

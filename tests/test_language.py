@@ -12,7 +12,7 @@ LIBRARY = {"math": {"gcd", "lcm", "isqrt", "comb", "perm", "factorial"}, "heapq"
 BUILTINS = set(
     "len range enumerate zip min max sum abs sorted reversed int str bool list tuple dict set isinstance ord repr any all "
     "divmod Exception ValueError TypeError KeyError IndexError LookupError ZeroDivisionError ArithmeticError OverflowError "
-    "RuntimeError NotImplementedError AttributeError NotImplemented property classmethod staticmethod".split()
+    "RuntimeError NotImplementedError AttributeError NotImplemented type property classmethod staticmethod".split()
 )
 METHODS = set(
     "append clear copy count endswith extend find get index insert isalnum isalpha isdigit islower isspace isupper items join "
@@ -24,7 +24,7 @@ SPECIAL = set(
     "__and__".split()
 )
 BARRED = set(
-    "type typing typing_extensions enum Enum IntEnum StrEnum Flag IntFlag Generic Protocol ABC ABCMeta namedtuple NamedTuple "
+    "typing typing_extensions enum Enum IntEnum StrEnum Flag IntFlag Generic Protocol ABC ABCMeta namedtuple NamedTuple "
     "TypedDict TYPE_CHECKING abstractmethod register mro elements open input law version_info with_traceback add_note eval exec "
     "exit globals locals vars dir id help os sys compile gc license quit credits".split()
 )
@@ -112,6 +112,13 @@ def top_names(tree):
     """Return the names of the functions and classes and of the assignments at module level."""
     names = {node.name for node in tree.body if isinstance(node, (ast.FunctionDef, ast.ClassDef))}
     return names | {node.targets[0].id for node in tree.body if isinstance(node, ast.Assign)}
+
+
+def is_kind_asked(node):
+    """Return whether a comparison is one like type(x) is int."""
+    if not isinstance(node.left, ast.Call) or getattr(node.left.func, "id", None) != "type" or len(node.left.args) != 1:
+        return False
+    return len(node.ops) == 1 and isinstance(node.ops[0], (ast.Is, ast.IsNot)) and getattr(node.comparators[0], "id", None) == "int"
 
 
 class LanguageTest(unittest.TestCase):
@@ -220,10 +227,20 @@ class LanguageTest(unittest.TestCase):
             if isinstance(node.func, ast.Attribute):
                 self.assertIn(node.func.attr, own | METHODS, (path, node.lineno))
 
+    def test_kinds_are_asked_for_beside_a_name(self):
+        asked = [node.left.func for _, node in nodes(ast.Compare) if is_kind_asked(node)]
+        for path, node in nodes(ast.Name):
+            if node.id == "type":
+                self.assertIn(node, asked, (path, node.lineno))
+        for path in TEXTS:
+            with open(path, "rb") as file:
+                for token in tokenize.tokenize(file.readline):
+                    self.assertFalse(token.type == tokenize.STRING and re.search(r"\btype\b", token.string), path)
+
     def test_is(self):
         for path, node in nodes(ast.Compare):
             for operator, right in zip(node.ops, node.comparators):
-                if isinstance(operator, (ast.Is, ast.IsNot)):
+                if isinstance(operator, (ast.Is, ast.IsNot)) and not is_kind_asked(node):
                     self.assertTrue(isinstance(right, ast.Constant) and right.value in (None, True, False), path)
 
     def test_attributes_are_no_methods(self):

@@ -1,42 +1,51 @@
 """Plans: the jobs of a run."""
 
-from holdlevels.checks import check_between, check_whole, is_between
+from holdlevels.checks import check_between, check_whole, is_whole
 from holdlevels.errors import InvalidOperation, InvalidPlan, UnknownName
-from holdlevels.tasks.tasks import GAP, LONGEST
+from holdlevels.tasks.tasks import GAP, LONGEST, NAME
 from holdlevels.tasks.tasksets import check_tasks
 
 MAX_TICK = 20000
 
 
-def _is_job(tasks, value):
-    """Return whether the value is a job of one of the tasks."""
-    if not isinstance(value, tuple) or len(value) != 3:
+def _have_form(value):
+    """Return whether the value is a tuple of tuples like jobs, which can be sorted."""
+    if not isinstance(value, tuple):
         return False
-    tick, name, length = value
-    return is_between(tick, 0, MAX_TICK) and name in tasks and is_between(length, 1, tasks[name][LONGEST])
+    if not all([isinstance(job, tuple) and len(job) == 3 for job in value]):
+        return False
+    return all([is_whole(tick) and isinstance(name, str) and is_whole(length) for tick, name, length in value])
 
 
-def _are_jobs(tasks, value):
-    """Return whether the value is a tuple of jobs, in any order."""
-    return isinstance(value, tuple) and all([_is_job(tasks, job) for job in value])
-
-
-def _are_apart(tasks, jobs):
-    """Return whether ascending jobs of one task are at least its gap apart."""
-    free = {name: 0 for name in tasks.names}
-    for tick, name, _ in jobs:
-        if tick < free[name]:
+def _are_apart(tasks, value):
+    """Return whether the items of a tuple are jobs of the tasks, those of each task at least its gap apart."""
+    rows = {task[NAME]: [0, task[LONGEST], task[GAP]] for task in tasks.tasks}
+    for job in value:
+        if not isinstance(job, tuple) or len(job) != 3:
             return False
-        free[name] = tick + tasks[name][GAP]
+        tick, name, length = job
+        if not isinstance(name, str) or name not in rows:
+            return False
+        row = rows[name]
+        free, longest, gap = row
+        # A plan can have many thousands of jobs: functions are only called for numbers of a rare kind.
+        if type(tick) is not int and not is_whole(tick):
+            return False
+        if type(length) is not int and not is_whole(length):
+            return False
+        if tick < free or length < 1 or length > longest:
+            return False
+        row[0] = tick + gap
     return True
 
 
 def is_plan(tasks, value):
     """Return whether the value is a plan of the tasks."""
     check_tasks(tasks)
-    if not _are_jobs(tasks, value):
+    if not isinstance(value, tuple) or not _are_apart(tasks, value):
         return False
-    return all([one < two for one, two in zip(value, value[1:])]) and _are_apart(tasks, value)
+    # Only what is known to be jobs can be sorted; the last one of ascending jobs has the greatest tick.
+    return list(value) == sorted(value) and (not value or value[-1][0] <= MAX_TICK)
 
 
 def check_plan(tasks, plan):
@@ -53,9 +62,8 @@ def make_plan(tasks, *jobs):
 def plan_of(tasks, jobs):
     """Return the plan with the jobs of a tuple, which come in any order."""
     check_tasks(tasks)
-    # Only what is known to be jobs can be sorted.
-    if not _are_jobs(tasks, jobs):
-        raise InvalidPlan("this is not a tuple of jobs of the tasks")
+    if not _have_form(jobs):
+        raise InvalidPlan("this is not a tuple of jobs")
     plan = tuple(sorted(jobs))
     check_plan(tasks, plan)
     return plan
@@ -87,9 +95,10 @@ def shifted(tasks, plan, ticks):
     """Return the plan with all jobs so many ticks later."""
     check_plan(tasks, plan)
     check_whole(ticks)
-    moved = tuple([(tick + ticks, name, length) for tick, name, length in plan])
-    check_plan(tasks, moved)
-    return moved
+    # Jobs that are shifted stay as far apart as they were.
+    if plan and (plan[0][0] + ticks < 0 or plan[-1][0] + ticks > MAX_TICK):
+        raise InvalidPlan("no job is released at such a tick")
+    return tuple([(tick + ticks, name, length) for tick, name, length in plan])
 
 
 def merged(tasks, plan, other):
@@ -128,17 +137,22 @@ def is_thinner(tasks, plan, value):
     return all([length <= lengths.get((tick, name), 0) for tick, name, length in value])
 
 
-def jobs_of(tasks, plan, name):
-    """Return the indices of the jobs of a task."""
+def _check_name(tasks, plan, name):
+    """Raise the errors of a plan and of a name."""
     check_plan(tasks, plan)
     if name not in tasks:
         raise UnknownName(name)
+
+
+def jobs_of(tasks, plan, name):
+    """Return the indices of the jobs of a task."""
+    _check_name(tasks, plan, name)
     return tuple([index for index, job in enumerate(plan) if job[1] == name])
 
 
 def work_in(tasks, plan, name, begin, end):
     """Return how long the jobs of a task run that are released from begin on, and before end."""
-    indices = jobs_of(tasks, plan, name)
+    _check_name(tasks, plan, name)
     check_whole(begin)
     check_whole(end)
-    return sum([plan[index][2] for index in indices if begin <= plan[index][0] < end])
+    return sum([length for tick, other, length in plan if other == name and begin <= tick < end])
