@@ -14,11 +14,14 @@ MAX_NOW = 40000
 class Moment:
     """What a machine is behind one of its steps; it never changes.
 
-    It is linked to the moment before it, so that steps are taken back without copies.
+    It is linked to the moment before it, so that steps are taken back without copies. Ticks at which
+    no job waits or is started have no moments, as there can be many: idle is how many of them ran
+    since the moment before, spare how many can still run behind this one.
     """
 
-    def __init__(self, before, job, entry):
+    def __init__(self, before, idle, job, entry):
         self.before = before
+        self.idle = idle
         self.job = job
         self.entry = entry
         self.done = 0
@@ -26,9 +29,10 @@ class Moment:
         self.pile = ()
         self.queue = ()
         self.free = ()
+        self.spare = 0
         if before is not None:
-            self.done = before.done + 1
-            self.at = before.at
+            self.done = before.done + idle + 1
+            self.at = before.at + idle
             self.pile = before.pile
             self.queue = before.queue
             self.free = before.free
@@ -36,8 +40,9 @@ class Moment:
 
 def _first_moment(many):
     """Return the moment at tick 0, at which each task may release a job."""
-    moment = Moment(None, None, None)
+    moment = Moment(None, 0, None, None)
     moment.free = (0,) * many
+    moment.spare = MAX_NOW
     return moment
 
 
@@ -57,7 +62,8 @@ class Machine:
         check_levels(levels)
         self._levels = levels
         self._holds = hold_table(levels)
-        self._state = _first_moment(len(levels))
+        # The last moment, and how many ticks without any job have run since then.
+        self._state = (_first_moment(len(levels)), 0)
 
     @property
     def levels(self):
@@ -67,48 +73,58 @@ class Machine:
     @property
     def now(self):
         """The present tick, which has not run yet."""
-        return self._state.at
+        moment, idle = self._state
+        return moment.at + idle
 
     @property
     def plan(self):
         """The plan of the jobs released so far."""
-        jobs = [moment.job for moment in _moments(self._state) if moment.job is not None]
+        jobs = [moment.job for moment in _moments(self._state[0]) if moment.job is not None]
         return tuple(sorted(jobs))
 
     @property
     def log(self):
         """For each tick so far the name of the job that ran, or None."""
-        return tuple([moment.entry for moment in _moments(self._state) if moment.job is None])
+        last, idle = self._state
+        entries = []
+        for moment in _moments(last):
+            entries.extend([None] * moment.idle)
+            if moment.job is None:
+                entries.append(moment.entry)
+        entries.extend([None] * idle)
+        return tuple(entries)
 
     @property
     def stack(self):
         """The names of the started jobs, from the lowest one on."""
         names = self._levels.tasks.names
-        return tuple([names[job[0]] for job in self._state.pile])
+        return tuple([names[job[0]] for job in self._state[0].pile])
 
     @property
     def waiting(self):
         """The names and release ticks of the waiting jobs, in the order in which they are next."""
         names = self._levels.tasks.names
-        return tuple([(names[job[0]], job[1]) for job in self._state.queue])
+        return tuple([(names[job[0]], job[1]) for job in self._state[0].queue])
 
     @property
     def hold(self):
         """The hold of the top, or None."""
-        if not self._state.pile:
+        pile = self._state[0].pile
+        if not pile:
             return None
-        return hold_of(self._holds, self._state.pile)
+        return hold_of(self._holds, pile)
 
     @property
     def room(self):
         """The room of all started jobs."""
         tasks = self._levels.tasks.tasks
-        return sum([tasks[job[0]][ROOM] for job in self._state.pile])
+        return sum([tasks[job[0]][ROOM] for job in self._state[0].pile])
 
     @property
     def steps(self):
         """How many steps the machine has made."""
-        return self._state.done
+        moment, idle = self._state
+        return moment.done + idle
 
     def release(self, name, *, length=None):
         """Release a job at the present tick, and return the number of steps."""
@@ -118,48 +134,58 @@ class Machine:
             length = task[LONGEST]
         check_between(length, 1, task[LONGEST])
         urgency = tasks.urgency(name)
-        now = self._state.at
-        free = self._state.free
+        last, idle = self._state
+        now = last.at + idle
+        free = last.free
         if now > MAX_TICK or now < free[urgency]:
             raise InvalidPlan("the task may not release a job at this tick")
-        moment = Moment(self._state, (now, name, length), None)
+        moment = Moment(last, idle, (now, name, length), None)
         moment.queue = with_waiting(moment.queue, (urgency, now, length, 0))
         moment.free = free[:urgency] + (now + task[GAP],) + free[urgency + 1:]
-        self._state = moment
+        self._state = (moment, 0)
         return moment.done
 
     def tick(self):
         """Run the present tick, and return its entry of the log."""
-        state = self._state
-        if state.at == MAX_NOW:
+        last, idle = self._state
+        if idle < last.spare:
+            self._state = (last, idle + 1)
+            return None
+        if last.at + idle == MAX_NOW:
             raise TooMany(MAX_NOW)
-        started, waiting = begun(self._holds, state.pile, state.queue)
-        entry = None
-        if started:
-            entry = self._levels.tasks.names[started[-1][0]]
-        moment = Moment(state, None, entry)
-        moment.at = state.at + 1
+        started, waiting = begun(self._holds, last.pile, last.queue)
+        moment = Moment(last, 0, None, self._levels.tasks.names[started[-1][0]])
+        moment.at = last.at + 1
         moment.pile = run_on(started)
         moment.queue = waiting
-        self._state = moment
-        return entry
+        if not moment.pile and not waiting:
+            moment.spare = MAX_NOW - moment.at
+        self._state = (moment, 0)
+        return moment.entry
 
     def walk(self, many):
         """Run so many ticks, each one when its entry is asked for."""
         check_not_negative(many)
         for _ in range(many):
-            yield self.tick()
+            last, idle = self._state
+            # As in tick: most ticks of a long walk run nothing, and a call for each takes its time.
+            if idle < last.spare:
+                self._state = (last, idle + 1)
+                yield None
+            else:
+                yield self.tick()
 
     def back(self, *, many=1):
         """Take back the last steps, and return the number of those that stay."""
         check_not_negative(many)
-        if many > self._state.done:
+        if many > self.steps:
             raise NothingToUndo(many)
-        moment = self._state
-        for _ in range(many):
-            moment = moment.before
-        self._state = moment
-        return moment.done
+        moment, idle = self._state
+        while many > idle:
+            many = many - idle - 1
+            moment, idle = moment.before, moment.idle
+        self._state = (moment, idle - many)
+        return self.steps
 
     def trial(self):
         """Return a block at whose end the machine is as at its beginning."""
@@ -182,4 +208,4 @@ class Machine:
         return self.plan == other.plan and self.log == other.log
 
     def __str__(self):
-        return f"machine at tick {self.now}, {len(self._state.pile)} started, {len(self._state.queue)} waiting"
+        return f"machine at tick {self.now}, {len(self.stack)} started, {len(self.waiting)} waiting"
