@@ -183,6 +183,14 @@ class StepTest(unittest.TestCase):
                 if levels[name] < len(tasks) - 1:
                     self.assertFalse(is_late_told(levels, name, worst_plan(levels, name)))
 
+    def test_a_task_that_is_late_anyway(self):
+        # Nobody delays it, and yet these are steps; then there are no good levels.
+        tasks = Tasks(make_task("low", 1, 100), make_task("mid", 1, 100), make_task("top", 2, 100, deadline=1))
+        rows = tuple(lowerings(tasks))
+        self.assertEqual([row[:2] for row in rows], [("mid", "top"), ("low", "top")])
+        self.assertEqual(behind_told(tasks, "greatest", rows).numbers, (1, 1, 2))
+        self.assertEqual([levels_paper(tasks)[:3], list(raisings(tasks))], [("none", rows, "top"), []])
+
     def test_one_by_one(self):
         for call, tasks in ((lowerings, TEN), (raisings, RISEN)):
             found = call(tasks)
@@ -400,8 +408,11 @@ class PaperTest(unittest.TestCase):
             ("a", "b", plan),
         ]:
             self.assertIs(is_levels_paper(tasks, ("least", (value,), tables)), False, value)
-        # No level is raised beyond n - 1.
         self.assertIs(is_levels_paper(tasks, ("least", (right, right), tables)), False)
+        # No level is raised beyond n - 1, also if a job is late there.
+        for late, name, plan in ((ONE.changed("a", deadline=99), "a", ((0, "a", 100),)), (tasks.changed("b", deadline=2), "b", ((0, "b", 3),))):
+            paper = ("least", ((name, plan),), {other: (1000, ((999, 1000),)) for other in late.names})
+            self.assertEqual([greatest_levels(late), is_levels_paper(late, paper)], [None, False])
         self.assertIs(is_levels_paper(tasks, ("least", (), tables)), False)
 
     def test_other_values(self):

@@ -78,6 +78,11 @@ class MakePlanTest(unittest.TestCase):
                 fails(self, InvalidPlan, make_plan, CAR, *value)
         for value in PLAIN + OWN:
             fails(self, InvalidPlan, make_plan, CAR, THREE[0], value)
+            # Jobs that cannot be put in order.
+            for job in ((value, "plan", 1), (0, value, 1), (0, "log", value)):
+                if job != (0, "log", 1) and job != (0, "plan", 1) and job != (1, "plan", 1) and job != (3, "plan", 1):
+                    fails(self, InvalidPlan, make_plan, CAR, THREE[0], job)
+                    fails(self, InvalidPlan, plan_of, CAR, (job,) + THREE)
 
 
 class DensePlanTest(unittest.TestCase):

@@ -20,22 +20,25 @@ def _have_form(value):
 def _are_apart(tasks, value):
     """Return whether the items of a tuple are jobs of the tasks, those of each task at least its gap apart."""
     rows = {task[NAME]: [0, task[LONGEST], task[GAP]] for task in tasks.tasks}
-    for job in value:
-        if not isinstance(job, tuple) or len(job) != 3:
-            return False
-        tick, name, length = job
-        if not isinstance(name, str) or name not in rows:
-            return False
-        row = rows[name]
-        free, longest, gap = row
-        # A plan can have many thousands of jobs: functions are only called for numbers of a rare kind.
-        if type(tick) is not int and not is_whole(tick):
-            return False
-        if type(length) is not int and not is_whole(length):
-            return False
-        if tick < free or length < 1 or length > longest:
-            return False
-        row[0] = tick + gap
+    # A plan can have many thousands of jobs: so no function is called for a job unless a number is of a rare kind.
+    try:
+        for job in value:
+            if not isinstance(job, tuple) or len(job) != 3:
+                return False
+            tick, name, length = job
+            if not isinstance(name, str):
+                return False
+            row = rows[name]
+            free, longest, gap = row
+            if type(tick) is not int and not is_whole(tick):
+                return False
+            if type(length) is not int and not is_whole(length):
+                return False
+            if tick < free or length < 1 or length > longest:
+                return False
+            row[0] = tick + gap
+    except KeyError:
+        return False
     return True
 
 
