@@ -24,13 +24,14 @@ class Moment:
         self.idle = idle
         self.job = job
         self.entry = entry
-        self.done = 0
-        self.at = 0
-        self.pile = ()
-        self.queue = ()
-        self.free = ()
         self.spare = 0
-        if before is not None:
+        if before is None:
+            self.done = 0
+            self.at = 0
+            self.pile = ()
+            self.queue = ()
+            self.free = ()
+        else:
             self.done = before.done + idle + 1
             self.at = before.at + idle
             self.pile = before.pile
@@ -61,6 +62,7 @@ class Machine:
     def __init__(self, levels):
         check_levels(levels)
         self._levels = levels
+        self._names = levels.tasks.names
         self._holds = hold_table(levels)
         # The last moment, and how many ticks without any job have run since then.
         self._state = (_first_moment(len(levels)), 0)
@@ -88,7 +90,8 @@ class Machine:
         last, idle = self._state
         entries = []
         for moment in _moments(last):
-            entries.extend([None] * moment.idle)
+            if moment.idle > 0:
+                entries.extend([None] * moment.idle)
             if moment.job is None:
                 entries.append(moment.entry)
         entries.extend([None] * idle)
@@ -97,14 +100,12 @@ class Machine:
     @property
     def stack(self):
         """The names of the started jobs, from the lowest one on."""
-        names = self._levels.tasks.names
-        return tuple([names[job[0]] for job in self._state[0].pile])
+        return tuple([self._names[job[0]] for job in self._state[0].pile])
 
     @property
     def waiting(self):
         """The names and release ticks of the waiting jobs, in the order in which they are next."""
-        names = self._levels.tasks.names
-        return tuple([(names[job[0]], job[1]) for job in self._state[0].queue])
+        return tuple([(self._names[job[0]], job[1]) for job in self._state[0].queue])
 
     @property
     def hold(self):
@@ -154,7 +155,7 @@ class Machine:
         if last.at + idle == MAX_NOW:
             raise TooMany(MAX_NOW)
         started, waiting = begun(self._holds, last.pile, last.queue)
-        moment = Moment(last, 0, None, self._levels.tasks.names[started[-1][0]])
+        moment = Moment(last, 0, None, self._names[started[-1][0]])
         moment.at = last.at + 1
         moment.pile = run_on(started)
         moment.queue = waiting
