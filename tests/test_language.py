@@ -62,6 +62,9 @@ INTERFACE = {
     "good.judged": "is_good faults state_paper is_state_paper",
     "good.greatest": "lowerings raisings greatest_levels least_levels levels_paper is_levels_paper good_path must_interrupt "
                      "can_interrupt",
+    "room.chains": "is_chain chains heaviest_chain most_room rooms room_paper is_room_paper chain_plan",
+    "room.threads": "may_share threads is_threads thread_paper is_thread_paper",
+    "margins.margins": "margin margins at_margin margin_paper is_margin_paper",
     "answers.worst": "delay delayers worst_answer worst_answers worst_job answer_table is_answer_table shown_by",
 }
 

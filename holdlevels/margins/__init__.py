@@ -1,0 +1,1 @@
+"""How much harder tasks can become."""

@@ -1,0 +1,1 @@
+"""The room and the threads that tasks need under levels."""
