@@ -65,6 +65,13 @@ INTERFACE = {
     "room.chains": "is_chain chains heaviest_chain most_room rooms room_paper is_room_paper chain_plan",
     "room.threads": "may_share threads is_threads thread_paper is_thread_paper",
     "margins.margins": "margin margins at_margin margin_paper is_margin_paper",
+    "margins.growth": "is_harder cut interruptions new_interruptions",
+    "live.desk": "Desk.__init__ Desk.tasks Desk.levels Desk.room Desk.steps Desk.kept Desk.keep Desk.do Desk.do_all Desk.undo Desk.redo "
+                 "Desk.news Desk.trial Desk.attempt Desk.twin Desk.__getitem__ Desk.__contains__ Desk.__len__ Desk.__eq__ "
+                 "Desk.__str__ Desk.__iter__",
+    "text.formats": "format_task format_tasks format_levels format_plan format_paper parse_task parse_tasks parse_levels "
+                    "parse_plan parse_paper chart",
+    "text.shell": "Shell.__init__ Shell.run Shell.run_all Shell.log Shell.levels Shell.desk Shell.__len__ Shell.__str__",
     "answers.worst": "delay delayers worst_answer worst_answers worst_job answer_table is_answer_table shown_by",
 }
 
@@ -255,13 +262,20 @@ class LanguageTest(unittest.TestCase):
             attributes[node.name] = {
                 at.attr for at in below if isinstance(at, ast.Attribute) and isinstance(at.ctx, ast.Store)
             }
-            self.assertEqual(len(methods[node.name]), len([at for at in below if isinstance(at, ast.FunctionDef)]))
+            # A property and its setter are one.
+            setters = [at for at in below if isinstance(at, ast.Attribute) and at.attr == "setter"]
+            self.assertEqual(len(methods[node.name]) + len(setters), len([at for at in below if isinstance(at, ast.FunctionDef)]))
         all_methods = set().union(*methods.values())
         for name in attributes:
             self.assertFalse(attributes[name] & all_methods, name)
 
     def test_generators_have_names_of_their_own(self):
         names = [node.name for _, node in nodes(ast.FunctionDef)]
+        # The interface gives this name to a generator of runs and to a function: so nothing in the package calls either.
+        self.assertEqual([node.name for _, node in nodes(ast.FunctionDef) if node.name == "interruptions"], ["interruptions"] * 2)
+        for path, node in nodes(ast.Name, ast.Attribute):
+            self.assertNotEqual(getattr(node, "id", getattr(node, "attr", None)), "interruptions", path)
+        names.remove("interruptions")
         for path, node in nodes(ast.FunctionDef):
             if any([isinstance(below, ast.Yield) for below in ast.walk(node)]):
                 self.assertEqual(names.count(node.name), 1, node.name)
@@ -288,6 +302,7 @@ class InterfaceTest(unittest.TestCase):
                 rows = body
                 for part in name.split("."):
                     found = [node for node in rows if isinstance(node, (ast.FunctionDef, ast.ClassDef)) and node.name == part]
+                    found = [node for node in found if "setter" not in [getattr(at, "attr", None) for at in node.decorator_list]]
                     self.assertEqual(len(found), 1, (module, name))
                     rows = found[0].body
 

@@ -151,11 +151,16 @@ def _existing(tasks, levels):
     return levels
 
 
+def existing_levels(tasks):
+    """Return the greatest levels, or raise NoLevels if there are none."""
+    return _existing(tasks, greatest_levels(tasks))
+
+
 def good_path(tasks):
     """Yield good levels from the least to the greatest ones, one of them greater by 1 each time."""
     check_tasks(tasks)
     levels = _existing(tasks, least_levels(tasks))
-    greatest = _existing(tasks, greatest_levels(tasks))
+    greatest = existing_levels(tasks)
     yield levels
     for name in tasks.names[::-1]:
         while levels[name] < greatest[name]:
@@ -173,7 +178,7 @@ def _check_names(tasks, name, other):
 def must_interrupt(tasks, name, other):
     """Return whether a job of the first task may interrupt one of the other under all good levels."""
     _check_names(tasks, name, other)
-    return _existing(tasks, greatest_levels(tasks)).may_interrupt(name, other)
+    return existing_levels(tasks).may_interrupt(name, other)
 
 
 def can_interrupt(tasks, name, other):

@@ -1,0 +1,1 @@
+"""Tasks that are admitted or refused while others are there."""
