@@ -6,18 +6,24 @@ from holdlevels.tasks.tasks import GAP, LONGEST
 MAX_DELAY = 99
 
 
+def works_of(tasks):
+    """Return the pairs (gap, longest) of all tasks, by their urgencies."""
+    return [(task[GAP], task[LONGEST]) for task in tasks.tasks]
+
+
 class Demand:
     """What comes ahead of the end of a job: a delay, its own task, and the more urgent ones.
 
-    The near tasks are those up to the level, which never interrupt the job; the far ones do.
+    The works are those of its own task and of the more urgent ones. The near tasks are those up to
+    the level, which never interrupt the job; the far ones do.
     """
 
     def __init__(self, tasks, urgency, level, held):
-        works = [(task[GAP], task[LONGEST]) for task in tasks.tasks]
+        self.works = works_of(tasks)[urgency:]
         self.held = held
-        self.gap, self.longest = works[urgency]
-        self.near = works[urgency + 1:level + 1]
-        self.far = works[level + 1:]
+        self.gap, self.longest = self.works[0]
+        self.near = self.works[1:level - urgency + 1]
+        self.far = self.works[level - urgency + 1:]
 
 
 def work_before(works, tick):
@@ -30,15 +36,79 @@ def work_until(works, tick):
     return sum([(tick // gap + 1) * longest for gap, longest in works])
 
 
-def least_round(demand):
+def _done_before(ahead, works, tick):
+    """Return the least tick, none below the given one, up to which all is done that is released before it.
+
+    What is ahead is done as well. No lesser tick than the given one must be such a tick.
+    """
+    while True:
+        needed = ahead
+        for gap, longest in works:
+            needed -= -tick // gap * longest
+        if needed == tick:
+            return tick
+        tick = needed
+
+
+def _done_until(ahead, works, tick):
+    """Return the least tick, as before, up to which all is done that is released at it or before it."""
+    while True:
+        needed = ahead
+        for gap, longest in works:
+            needed += (tick // gap + 1) * longest
+        if needed == tick:
+            return tick
+        tick = needed
+
+
+def least_round(works, held):
     """Return the least tick above 0 at which all is done that was released before."""
-    works = [(demand.gap, demand.longest), *demand.near, *demand.far]
-    length = 1
-    needed = demand.held + work_before(works, length)
-    while needed > length:
-        length = needed
-        needed = demand.held + work_before(works, length)
-    return length
+    return _done_before(held, works, 1)
+
+
+def _time_left(works):
+    """Return the share of all time that the works leave, as a pair of integers, and the sum of their runs."""
+    upper, lower, total = 1, 1, 0
+    for gap, longest in works:
+        upper = upper * gap - longest * lower
+        lower = lower * gap
+        total += longest
+    return upper, lower, total
+
+
+def is_in_time(works, urgency, level, held, deadline):
+    """Return whether no answer of a task at a level, with this delay, is greater than its deadline.
+
+    The works are those of all tasks.
+    """
+    gap, longest = works[urgency]
+    higher = works[urgency + 1:]
+    near = works[urgency + 1:level + 1]
+    far = works[level + 1:]
+    ahead = begin = held
+    release = 0
+    upper = None
+    while True:
+        start = _done_until(ahead, higher, begin)
+        ahead += longest
+        end = start + longest
+        if far:
+            end = _done_before(ahead + work_until(near, start), far, end)
+        if end - release > deadline:
+            return False
+        begin = end
+        if near:
+            begin = _done_before(ahead, higher, end)
+        release += gap
+        # The round goes on if a job is released before all ahead of it is done.
+        if begin <= release:
+            return True
+        if upper is None:
+            upper, lower, total = _time_left(higher)
+        # Up to an end there is at most one run of each task more than its share of the time: so the
+        # answer of the next job is at most this, and those of all later ones are less.
+        if (ahead + longest + total) * lower <= (deadline + release) * upper:
+            return True
 
 
 def _releases(works, end):
@@ -84,7 +154,7 @@ def _least_ends(demand, length, starts):
 
 def least_table(demand):
     """Return the table of least numbers."""
-    length = least_round(demand)
+    length = least_round(demand.works, demand.held)
     starts = _least_starts(demand, length)
     ends = _least_ends(demand, length, starts)
     return length, tuple(zip(starts, ends))
@@ -123,8 +193,7 @@ def is_table(demand, value):
     length, pairs = value
     if not is_whole(length) or length < 1 or not isinstance(pairs, tuple):
         return False
-    works = [(demand.gap, demand.longest), *demand.near, *demand.far]
-    if length < demand.held + work_before(works, length) or len(pairs) != -(-length // demand.gap):
+    if length < demand.held + work_before(demand.works, length) or len(pairs) != -(-length // demand.gap):
         return False
     if not all([_is_pair(pair) for pair in pairs]):
         return False

@@ -13,6 +13,17 @@ def _section_holdups(task, ceilings, urgency):
     return [(task[NAME], lock, ticks, found[(lock, ticks)]) for lock, ticks in sorted(found)]
 
 
+def section_delays(tasks):
+    """Return for each urgency how long sections of less urgent tasks can hold off its task."""
+    ceilings = tasks.locks
+    found = [0] * len(tasks)
+    for lower, task in enumerate(tasks.tasks):
+        for begin, end, lock in task[SECTIONS]:
+            for urgency in range(lower + 1, ceilings[lock] + 1):
+                found[urgency] = max(found[urgency], end - begin - 1)
+    return found
+
+
 def holdups(levels, urgency):
     """Return all holdups of the task with this urgency, by their tasks, None ahead of the locks.
 

@@ -1,7 +1,7 @@
 """Plans in whose runs the worst answers are reached."""
 
-from holdlevels.answers.demands import Demand, least_round
-from holdlevels.answers.holdups import longest_holdup
+from holdlevels.answers.demands import is_in_time, least_round, works_of
+from holdlevels.answers.holdups import delay_of, longest_holdup
 from holdlevels.answers.worst import answer_table, worst_answer
 from holdlevels.checks import check_between
 from holdlevels.runs.plans import is_plan
@@ -13,7 +13,7 @@ from holdlevels.tasks.tasks import DEADLINE, GAP, LONGEST, NAME
 def plan_behind(tasks, urgency, holdup):
     """Return the plan in which a holdup comes first, and then as much as can be while the round goes on."""
     lower, _, ticks, ran = holdup
-    length = least_round(Demand(tasks, urgency, urgency, ticks))
+    length = least_round(works_of(tasks)[urgency:], ticks)
     jobs = []
     if ticks > 0:
         jobs.append((0, lower, tasks[lower][LONGEST]))
@@ -61,8 +61,9 @@ def reaching_plan(levels, name, number):
 
 def late_name(levels):
     """Return the name of the first task with a worst answer greater than its deadline, or None."""
-    for task in levels.tasks.tasks:
-        if worst_answer(levels, task[NAME]) > task[DEADLINE]:
+    works = works_of(levels.tasks)
+    for urgency, task in enumerate(levels.tasks.tasks):
+        if not is_in_time(works, urgency, levels.numbers[urgency], delay_of(levels, urgency), task[DEADLINE]):
             return task[NAME]
     return None
 

@@ -1,6 +1,6 @@
 """Rounds of tasks, and the starts and ends of the jobs in them."""
 
-from holdlevels.answers.demands import MAX_DELAY, Demand, least_round, least_table, shown_answers
+from holdlevels.answers.demands import MAX_DELAY, Demand, least_round, least_table, shown_answers, works_of
 from holdlevels.checks import check_between, check_not_negative
 from holdlevels.tasks.tasksets import check_tasks
 
@@ -21,7 +21,7 @@ def round_length(tasks, name, *, delay=0):
     check_tasks(tasks)
     urgency = tasks.urgency(name)
     check_between(delay, 0, MAX_DELAY)
-    return least_round(Demand(tasks, urgency, urgency, delay))
+    return least_round(works_of(tasks)[urgency:], delay)
 
 
 def start_time(tasks, name, number, *, delay=0):

@@ -1,76 +1,90 @@
 """The greatest and the least good levels of tasks, and the papers that show them."""
 
-from holdlevels.answers.holdups import delay_of
-from holdlevels.answers.reached import late_name, plan_behind, worst_plan
-from holdlevels.answers.worst import worst_answer
+from holdlevels.answers.demands import works_of
+from holdlevels.answers.holdups import longest_holdup, section_delays
+from holdlevels.answers.reached import plan_behind, worst_plan
 from holdlevels.errors import InvalidLevels, InvalidOperation, NoLevels
 from holdlevels.good.papers import are_good_tables, behind_raises, behind_steps, is_late_anyway, tables_of
-from holdlevels.good.tolerances import bears, most_borne
+from holdlevels.good.tolerances import Bearer, first_level
 from holdlevels.tasks.levels import Levels
-from holdlevels.tasks.tasks import DEADLINE, LONGEST, NAME
+from holdlevels.tasks.tasks import DEADLINE, GAP, LONGEST
 from holdlevels.tasks.tasksets import check_tasks
 
 
-def _lowered(tasks, highest):
-    """Return the numbers of the levels behind all steps from levels on, and the steps.
+def _descent(tasks, highest):
+    """Return the numbers of the levels behind all steps from levels on, the steps, and who is late anyway.
 
-    The steps are pairs (lowered, delayed) of urgencies.
+    The steps are pairs (lowered, delayed) of urgencies. Who is late anyway is the least urgency of a
+    task that is late behind them however low the levels of less urgent tasks are, or None.
     """
-    numbers = list(highest.numbers)
-    borne = [0] * len(tasks)
+    works = works_of(tasks)
+    held = section_delays(tasks)
+    numbers = list(highest)
+    bearers = [None] * len(works)
     steps = []
+    late = None
     # What a task bears hangs on its own level alone, and this on what more urgent tasks bear.
-    for urgency in range(len(tasks) - 1, -1, -1):
-        ticks = tasks.tasks[urgency][LONGEST] - 1
-        held = [other for other in range(urgency + 1, numbers[urgency] + 1) if borne[other] < ticks]
-        if held:
-            numbers[urgency] = held[0] - 1
-            steps.append((urgency, held[0]))
-        borne[urgency] = most_borne(tasks, urgency, numbers[urgency], -1)
-    return numbers, steps
+    for urgency in range(len(works) - 1, -1, -1):
+        task = tasks.tasks[urgency]
+        for upper in range(urgency + 1, numbers[urgency] + 1):
+            if not bearers[upper].bears(task[LONGEST] - 1):
+                numbers[urgency] = upper - 1
+                steps.append((urgency, upper))
+                break
+        bearers[urgency] = Bearer(works, urgency, numbers[urgency], task[DEADLINE])
+        if not bearers[urgency].bears(held[urgency]):
+            late = urgency
+    return numbers, steps, late
+
+
+def _full_descent(tasks):
+    """Return what is behind all steps from the greatest of all levels on."""
+    return _descent(tasks, [len(tasks) - 1] * len(tasks))
+
+
+def _shown_step(tasks, lower, upper):
+    """Return the step that lowers the level of a task below the urgency of another one."""
+    name, longest = tasks.tasks[lower][:GAP]
+    return name, tasks.names[upper], plan_behind(tasks, upper, (name, None, longest - 1, 1))
 
 
 def lowerings(tasks):
     """Yield steps behind which no further step exists."""
     check_tasks(tasks)
-    names = tasks.names
-    _, steps = _lowered(tasks, Levels.greatest(tasks))
+    _, steps, _ = _full_descent(tasks)
     for lower, upper in steps:
-        holdup = (names[lower], None, tasks.tasks[lower][LONGEST] - 1, 1)
-        yield (names[lower], names[upper], plan_behind(tasks, upper, holdup))
+        yield _shown_step(tasks, lower, upper)
 
 
-def _raised(tasks):
-    """Return the levels behind all raises."""
-    levels = Levels.least(tasks)
+def _ascent(tasks):
+    """Return the numbers of the levels behind all raises, and whether these are good."""
+    works = works_of(tasks)
+    held = section_delays(tasks)
+    numbers = []
+    good = True
     # The delay of a task hangs on the levels of the less urgent ones alone.
-    for urgency, name in enumerate(tasks.names):
-        ticks = delay_of(levels, urgency)
-        level = urgency
-        while level < len(tasks) - 1 and not bears(tasks, urgency, level, ticks):
-            level += 1
-        levels = levels.with_level(name, level)
-    return levels
+    for urgency, task in enumerate(tasks.tasks):
+        delays = [lower[LONGEST] - 1 for lower, level in zip(tasks.tasks, numbers) if level >= urgency]
+        level = first_level(works, urgency, max([held[urgency], *delays]), task[DEADLINE])
+        if level is None:
+            level = len(works) - 1
+            good = False
+        numbers.append(level)
+    return numbers, good
 
 
 def raisings(tasks):
     """Yield raises behind which no further raise exists."""
     check_tasks(tasks)
     levels = Levels.least(tasks)
-    for name, level in zip(tasks.names, _raised(tasks).numbers):
+    numbers, _ = _ascent(tasks)
+    for name, level in zip(tasks.names, numbers):
         if levels[name] < level:
             # The same plan is about the task at each of its levels.
             plan = worst_plan(levels, name)
             for _ in range(levels[name], level):
                 yield (name, plan)
             levels = levels.with_level(name, level)
-
-
-def _if_good(levels):
-    """Return the levels if they are good, otherwise None."""
-    if late_name(levels) is None:
-        return levels
-    return None
 
 
 def greatest_levels(tasks, *, within=None):
@@ -81,29 +95,26 @@ def greatest_levels(tasks, *, within=None):
         highest = Levels.greatest(tasks)
     if not isinstance(highest, Levels) or highest.tasks != tasks:
         raise InvalidLevels("these are not levels of equal tasks")
-    numbers, _ = _lowered(tasks, highest)
-    return _if_good(Levels(tasks, *numbers))
+    numbers, _, late = _descent(tasks, highest.numbers)
+    if late is not None:
+        return None
+    return Levels(tasks, *numbers)
 
 
 def least_levels(tasks):
     """Return the least good levels, or None."""
     check_tasks(tasks)
-    return _if_good(_raised(tasks))
+    numbers, good = _ascent(tasks)
+    if not good:
+        return None
+    return Levels(tasks, *numbers)
 
 
-def _paper_none(tasks):
+def _paper_none(tasks, steps, late):
     """Return a paper of tasks without good levels."""
-    numbers, _ = _lowered(tasks, Levels.greatest(tasks))
-    steps = tuple(lowerings(tasks))
-    found = []
-    for urgency, task in enumerate(tasks.tasks):
-        # Behind all steps no level of a less urgent task makes this one late: only a section does, or nothing.
-        lowest = list(range(urgency)) + numbers[urgency:]
-        levels = Levels(tasks, *lowest)
-        if worst_answer(levels, task[NAME]) > task[DEADLINE]:
-            found.append((task[NAME], worst_plan(levels, task[NAME])))
-    name, plan = found[0]
-    return "none", steps, name, plan
+    # No level of a less urgent task makes the late one late: only a section does, or nothing.
+    plan = plan_behind(tasks, late, longest_holdup(Levels.least(tasks), late))
+    return "none", tuple([_shown_step(tasks, lower, upper) for lower, upper in steps]), tasks.names[late], plan
 
 
 def levels_paper(tasks, *, least=False):
@@ -111,15 +122,15 @@ def levels_paper(tasks, *, least=False):
     check_tasks(tasks)
     if not isinstance(least, bool):
         raise InvalidOperation("this is neither True nor False")
-    levels = least_levels(tasks) if least else greatest_levels(tasks)
-    if levels is None:
-        return _paper_none(tasks)
-    tables = tables_of(levels)
-    if least:
+    levels = least_levels(tasks) if least else None
+    if levels is not None:
         raises = tuple(raisings(tasks))
-        return "least", raises, tables
-    steps = tuple(lowerings(tasks))
-    return "greatest", steps, tables
+        return "least", raises, tables_of(levels)
+    numbers, steps, late = _full_descent(tasks)
+    if late is not None:
+        return _paper_none(tasks, steps, late)
+    shown = tuple([_shown_step(tasks, lower, upper) for lower, upper in steps])
+    return "greatest", shown, tables_of(Levels(tasks, *numbers))
 
 
 def _is_paper_none(tasks, value):
@@ -144,23 +155,19 @@ def is_levels_paper(tasks, value):
     return levels is not None and are_good_tables(levels, value[2])
 
 
-def _existing(tasks, levels):
-    """Return the levels, or raise NoLevels if there are none."""
-    if levels is None:
-        raise NoLevels(levels_paper(tasks))
-    return levels
-
-
 def existing_levels(tasks):
     """Return the greatest levels, or raise NoLevels if there are none."""
-    return _existing(tasks, greatest_levels(tasks))
+    check_tasks(tasks)
+    numbers, steps, late = _full_descent(tasks)
+    if late is not None:
+        raise NoLevels(_paper_none(tasks, steps, late))
+    return Levels(tasks, *numbers)
 
 
 def good_path(tasks):
     """Yield good levels from the least to the greatest ones, one of them greater by 1 each time."""
-    check_tasks(tasks)
-    levels = _existing(tasks, least_levels(tasks))
     greatest = existing_levels(tasks)
+    levels = least_levels(tasks)
     yield levels
     for name in tasks.names[::-1]:
         while levels[name] < greatest[name]:
@@ -184,4 +191,7 @@ def must_interrupt(tasks, name, other):
 def can_interrupt(tasks, name, other):
     """Return whether a job of the first task may interrupt one of the other under some good levels."""
     _check_names(tasks, name, other)
-    return _existing(tasks, least_levels(tasks)).may_interrupt(name, other)
+    levels = least_levels(tasks)
+    if levels is None:
+        raise NoLevels(levels_paper(tasks))
+    return levels.may_interrupt(name, other)

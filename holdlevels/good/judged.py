@@ -1,11 +1,13 @@
 """Whether levels are good, and why not."""
 
+from holdlevels.answers.demands import works_of
 from holdlevels.answers.holdups import holdups
 from holdlevels.answers.reached import late_name, worst_plan
 from holdlevels.good.papers import are_good_tables, has_late_job, tables_of
-from holdlevels.good.tolerances import most_borne
+from holdlevels.good.tolerances import Bearer
 from holdlevels.runs.plans import is_plan
 from holdlevels.tasks.levels import check_levels
+from holdlevels.tasks.tasks import DEADLINE, NAME
 
 
 def is_good(levels):
@@ -18,14 +20,15 @@ def faults(levels):
     """Yield all faults of the levels, by the urgencies of both tasks, then by lock and ticks."""
     check_levels(levels)
     tasks = levels.tasks
-    for urgency, name in enumerate(tasks.names):
-        most = most_borne(tasks, urgency, levels.numbers[urgency], -1)
-        if most < 0:
-            yield (name, None, None, 0)
+    works = works_of(tasks)
+    for urgency, task in enumerate(tasks.tasks):
+        most = Bearer(works, urgency, levels.numbers[urgency], task[DEADLINE]).most_borne()
+        if most is None:
+            yield (task[NAME], None, None, 0)
         else:
             for lower, lock, ticks, _ in holdups(levels, urgency):
                 if ticks > most:
-                    yield (name, lower, lock, ticks)
+                    yield (task[NAME], lower, lock, ticks)
 
 
 def state_paper(levels):
