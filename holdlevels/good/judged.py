@@ -22,13 +22,16 @@ def faults(levels):
     tasks = levels.tasks
     works = works_of(tasks)
     for urgency, task in enumerate(tasks.tasks):
-        most = Bearer(works, urgency, levels.numbers[urgency], task[DEADLINE]).most_borne()
-        if most is None:
-            yield (task[NAME], None, None, 0)
-        else:
-            for lower, lock, ticks, _ in holdups(levels, urgency):
-                if ticks > most:
-                    yield (task[NAME], lower, lock, ticks)
+        found = holdups(levels, urgency)
+        bearer = Bearer(works, urgency, levels.numbers[urgency], task[DEADLINE])
+        # If the task bears the longest holdup, it bears all of them.
+        if not bearer.bears(max([0, *[ticks for _, _, ticks, _ in found]])):
+            if not bearer.bears(0):
+                yield (task[NAME], None, None, 0)
+            else:
+                for lower, lock, ticks, _ in found:
+                    if not bearer.bears(ticks):
+                        yield (task[NAME], lower, lock, ticks)
 
 
 def state_paper(levels):
