@@ -329,7 +329,7 @@ class PaperTextTest(unittest.TestCase):
                         {"log": (20, ((9,),))}, {"log": (20, ((9, 20, 1),))}, {"log": (20, ((-1, 20),))}, {"log": (20, ((9, True),))}, {"log": (20, ([9, 20],))}, {"log": 20},
                         {"log": (20,)}, {"log": [20, ((9, 20),)]}, {"log": (True, ((9, 20),))}, {"log": ("20", ((9, 20),))}, {None: (20, ((9, 20),))}, tuple(tables.items())]
         wrong_names = [None, "", "Log", "log ", "a" * 9, 0, ("log",), ["log"], True]
-        values = PLAIN + OWN + [list(right[0]), right[0][:2], right[0] + ((),), ("good", tables, ()), ("good",), ("none",) + right[0][1:], ("greatest",) + right[1][1:],
+        values = PLAIN + OWN + [list(right[0]), right[0][:2], right[0] + ((),), ("good", tables, ()), ("good",), ("least", (), {}, (), ()), ("greatest", (), {}, (), ()), ("late", "log", (), (), ()), ("none", (), "log", (), ()), ("late",), ("none",) + right[0][1:], ("greatest",) + right[1][1:],
                                 ("least",) + right[0][1:], ("late", "log"), ("late", "log", jobs, ()), ("Good", tables), (None, tables), (["good"], tables), ("", tables)]
         values += [(word, steps, tables) for word in ("greatest", "least") for steps in (None, [], list(right[0][1]), {}, "", ("log",), (("log",),), ((jobs,),), ((),))]
         for rows in wrong_jobs:

@@ -247,6 +247,18 @@ class LanguageTest(unittest.TestCase):
                 for token in tokenize.tokenize(file.readline):
                     self.assertFalse(token.type == tokenize.STRING and re.search(r"\btype\b", token.string), path)
 
+    def test_stars_in_calls_stand_before_names(self):
+        for path, node in nodes(ast.Call):
+            for below in node.args:
+                if isinstance(below, ast.Starred):
+                    self.assertIsInstance(below.value, (ast.Name, ast.Attribute, ast.List, ast.Tuple), (path, node.lineno))
+
+    def test_names_that_are_kept_for_others(self):
+        for path, text in TEXTS.items():
+            for name in re.findall(r"\b_[A-Za-z_0-9]*", text):
+                self.assertNotRegex(name, r"^(_wall|_pe_|_dcw_|_enum_|_cm_|_twin_re_|_lay_|_law_|_stub_|_sre|_WallAttr)", path)
+                self.assertNotRegex(name, r"^_(cold|tuplegetter|outside|record|written_out|member_names)[0-9_]*$", path)
+
     def test_is(self):
         for path, node in nodes(ast.Compare):
             for operator, right in zip(node.ops, node.comparators):

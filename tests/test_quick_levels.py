@@ -49,6 +49,14 @@ class InTimeTest(unittest.TestCase):
         for name, held in (("a", 8), ("a", 99), ("b", 99), ("c", 99)):
             self.check(SAME, name, 2, held)
 
+    def test_rounds_that_go_on_though_a_job_has_ended(self):
+        # Near tasks that wait behind the first job hold off the next one; a later job has the worst answer.
+        tasks = Tasks(make_task("a", 5, 30), make_task("b", 2, 16), make_task("c", 5, 20), make_task("d", 7, 21))
+        self.check(tasks, "a", 1, 1)
+        # Later jobs are late by one tick only, where the first ones are just in time.
+        self.check(Tasks(make_task("a", 1, 2), make_task("b", 2, 6)), "a", 0, 3)
+        self.check(Tasks(make_task("a", 2, 4), make_task("b", 3, 9)), "a", 0, 3)
+
     def test_tolerances(self):
         for deadline, level in ((25, 0), (70, 3), (90, 5)):
             tasks = LONG.changed("z", deadline=deadline)

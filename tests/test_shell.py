@@ -142,6 +142,9 @@ class CommandTest(unittest.TestCase):
         for text in ("x", "x 1", "log 6 40 40", "log 6 40 40 5 ", "log 6 40 40 5\n", "log  6 40 40 5", "log 06 40 40 5", "Log 6 40 40 5", "log 6 40 40 5 map", "log 101 400 400 5", "log 6 40 40 5 x 0-6"):
             for line in (f"put 0 {text}", f"put 99999 {text}", f"set {text}"):
                 fails(self, ParseError, shell.run, line)
+        # A line end is none between words, but is looked at as a part of the text of the task.
+        for line in ("set log\n6 40 40 5", "set \n", "put 0 log 6 40 40 5\nplan 4 20 16 4"):
+            fails(self, ParseError, shell.run, line)
         # What is ahead of the task comes first.
         for line in ("put x x", "put 0  x", "put 100000 x 1", "Put 0 x"):
             fails(self, InvalidCommand, shell.run, line)

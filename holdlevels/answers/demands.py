@@ -6,9 +6,9 @@ from holdlevels.tasks.tasks import GAP, LONGEST
 MAX_DELAY = 99
 
 
-def works_of(tasks):
-    """Return the pairs (gap, longest) of all tasks, by their urgencies."""
-    return [(task[GAP], task[LONGEST]) for task in tasks.tasks]
+def works_of(tasks, urgency=0):
+    """Return the pairs (gap, longest) of all tasks with at least this urgency, by their urgencies."""
+    return [(task[GAP], task[LONGEST]) for task in tasks.tasks[urgency:]]
 
 
 class Demand:
@@ -19,11 +19,12 @@ class Demand:
     """
 
     def __init__(self, tasks, urgency, level, held):
-        self.works = works_of(tasks)[urgency:]
+        works = works_of(tasks, urgency)
+        self.works = works
         self.held = held
-        self.gap, self.longest = self.works[0]
-        self.near = self.works[1:level - urgency + 1]
-        self.far = self.works[level - urgency + 1:]
+        self.gap, self.longest = works[0]
+        self.near = works[1:level - urgency + 1]
+        self.far = works[level - urgency + 1:]
 
 
 def work_before(works, tick):

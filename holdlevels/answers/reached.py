@@ -13,7 +13,7 @@ from holdlevels.tasks.tasks import DEADLINE, GAP, LONGEST, NAME
 def plan_behind(tasks, urgency, holdup):
     """Return the plan in which a holdup comes first, and then as much as can be while the round goes on."""
     lower, _, ticks, ran = holdup
-    length = least_round(works_of(tasks)[urgency:], ticks)
+    length = least_round(works_of(tasks, urgency), ticks)
     jobs = []
     if ticks > 0:
         jobs.append((0, lower, tasks[lower][LONGEST]))

@@ -21,7 +21,7 @@ def round_length(tasks, name, *, delay=0):
     check_tasks(tasks)
     urgency = tasks.urgency(name)
     check_between(delay, 0, MAX_DELAY)
-    return least_round(works_of(tasks)[urgency:], delay)
+    return least_round(works_of(tasks, urgency), delay)
 
 
 def start_time(tasks, name, number, *, delay=0):

@@ -14,7 +14,8 @@ def _demand(levels, name):
 
 def delay(levels, name):
     """Return the delay of a task."""
-    return _demand(levels, name).held
+    check_levels(levels)
+    return delay_of(levels, levels.tasks.urgency(name))
 
 
 def delayers(levels, name):

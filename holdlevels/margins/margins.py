@@ -84,7 +84,7 @@ def at_margin(tasks, name, number):
     return tasks.changed_by(name, {number: value})
 
 
-def _outside_word(tasks, name, number, value):
+def _word_beyond(tasks, name, number, value):
     """Return why there are no tasks with a value, in a word, or None if there are some."""
     if value == _bounds(tasks[name], number)[1] + _way(number):
         return "bound"
@@ -99,7 +99,7 @@ def margin_paper(tasks, name, number):
     if value is None:
         return None, None, levels_paper(_easiest_tasks(tasks, name, number))
     beyond = value + _way(number)
-    outside = _outside_word(tasks, name, number, beyond)
+    outside = _word_beyond(tasks, name, number, beyond)
     if outside is None:
         outside = levels_paper(_with_value(tasks, name, number, beyond))
     return value, levels_paper(_with_value(tasks, name, number, value)), outside
@@ -121,7 +121,7 @@ def _is_inside(tasks, name, number, value, paper):
 
 def _is_outside(tasks, name, number, value, outside):
     """Return whether a word or a paper shows that the value beyond a possible one is not possible."""
-    word = _outside_word(tasks, name, number, value)
+    word = _word_beyond(tasks, name, number, value)
     if word is not None:
         return outside == word
     return _is_paper(_with_value(tasks, name, number, value), "none", outside)
